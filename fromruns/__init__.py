@@ -1,0 +1,1 @@
+"""Fromruns: protocols learned from runs alone."""
