@@ -37,12 +37,12 @@ class Classes:
         """Split classes until no state is in doubt."""
         while self.queue:
             kind = self.queue.pop()
-            moved = self.split(kind, self.doubted.pop(kind))
+            moved = self.divide(kind, self.doubted.pop(kind))
             for state in moved:
                 for source in self.sources[state]:
                     self.doubt(source)
 
-    def split(self, kind, unsure):
+    def divide(self, kind, unsure):
         """Move all parts of the class but its largest one; return the moved states."""
         members = self.members[kind]
         if 2 * len(unsure) < len(members):
