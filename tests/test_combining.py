@@ -324,6 +324,21 @@ class Apart(unittest.TestCase):
             self.assertEqual(parting(one, other), "a" * 63)
             self.assertEqual(parting(ring(63, ends=(0,)), line(63)), "")
 
+    def test_the_longest_partings_of_two_rings(self):
+        # Which a^i are taken has the periods 63 and 64 for i up to 124; that leaves two kinds of i.
+        kinds = list(range(125))
+        for period in (63, 64) * 125:
+            for at in range(125 - period):
+                kinds[at] = kinds[at + period] = min(kinds[at], kinds[at + period])
+        self.assertEqual(len(set(kinds)), 2)
+        one = ring(63, ends=[at for at in range(63) if kinds[at] == kinds[0]])
+        other = ring(64, ends=[at for at in range(64) if kinds[at] == kinds[0]])
+        self.assertIsNone(complaint(one))
+        self.assertIsNone(complaint(other))
+        with without_delay(self):
+            self.assertEqual(parting(one, other), "a" * 125)
+            self.assertEqual(parting(other, one), "a" * 125)
+
     def test_pairs_at_random(self):
         pick = random.Random(4)
         for seed in range(40):
