@@ -6,11 +6,10 @@ one for each letter.
 """
 
 
-def explored(start, steps, is_end):
-    """Number all things that are reached, in the order of their first runs.
+def reached(start, steps):
+    """Return the list of all things that are reached, in the order of their first runs, and the list of their arrows.
 
-    Return the list of the arrows of each number, and the list that tells for
-    each number whether it is an end.
+    An arrow is a pair of a letter and the place in the list of the thing that the letter leads to.
     """
     numbers = {start: 0}
     found = [start]
@@ -24,6 +23,16 @@ def explored(start, steps, is_end):
                 found.append(thing)
             row.append((letter, numbers[thing]))
         rows.append(row)
+    return found, rows
+
+
+def explored(start, steps, is_end):
+    """Number all things that are reached, in the order of their first runs.
+
+    Return the list of the arrows of each number, and the list that tells for
+    each number whether it is an end.
+    """
+    found, rows = reached(start, steps)
     return rows, [is_end(thing) for thing in found]
 
 

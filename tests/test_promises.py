@@ -6,6 +6,7 @@ import inspect
 import random
 import unittest
 
+from fromruns.errors import FromrunsError
 from fromruns.machines import machine_of, runs_machine
 from tests.reference import complaint, line, random_web, ring
 
@@ -48,21 +49,83 @@ INTERFACE = {
         "never_paper": "machine",
         "judge_never": "machine, paper",
     },
+    "learning": {
+        "close": "machine, k",
+        "learn": "runs, k",
+        "join": "first, second, k",
+        "staircase": "runs",
+        "leads": "machine, k",
+        "first_unexplained": "seen, runs, k",
+        "same_protocol": "first, second, k",
+    },
+    "windows": {
+        "windows": "runs, k",
+        "fits_windows": "runs, k, run",
+        "local_close": "machine, k",
+        "local_learn": "runs, k",
+        "is_local": "machine, k",
+        "least_local": "machine",
+        "local_gap": "machine, k",
+        "judge_gap": "machine, k, gap",
+        "splice": "runs, k, run",
+        "judge_splices": "runs, k, lines, run",
+    },
+    "lots": {
+        "lot": "machine, k",
+        "teach": "machine, k",
+        "is_lot": "machine, k, runs",
+        "spare_runs": "runs, k",
+        "lean_lot": "runs, k",
+    },
+    "barring": {"first_clash": "seen, barred, k", "least_fit": "machine, barred", "kind_of": "seen, barred, k, run"},
+    "merging": {
+        "merge_log": "runs, k",
+        "lumps": "runs, k, log",
+        "is_whole": "runs, k, log",
+        "lump_machine": "runs, k, log",
+    },
+    "derivations": {"derive": "runs, k, run", "judge_derivation": "runs, k, lines, run"},
+    "papers": {
+        "barring_paper": "runs, k, run",
+        "judge_barring": "runs, k, run, machine",
+        "kind_paper": "seen, barred, k, run",
+        "judge_sure": "seen, k, run, paper",
+        "judge_never_run": "seen, barred, k, run, paper",
+        "judge_open": "seen, barred, k, run, paper",
+    },
+    "fitting": {"fit_paper": "seen, barred", "judge_fit": "seen, barred, paper", "fits": "seen, barred"},
 }
 
-TRUTHS = ("takes", "is_finite", "judge_fault", "is_bad", "is_closed", "judge_never")
-NUMBERS = ("count_runs", "number_of", "state_behind", "least_closed")
+TRUTHS = (
+    "takes", "is_finite", "judge_fault", "is_bad", "is_closed", "judge_never", "same_protocol", "fits_windows",
+    "is_local", "judge_gap", "judge_splices", "is_lot", "is_whole", "judge_derivation", "judge_barring", "judge_sure",
+    "judge_never_run", "judge_open", "judge_fit",
+)
+NUMBERS = ("count_runs", "number_of", "state_behind", "least_closed", "least_local", "least_fit")
 STRINGS = (
     "last_letters", "backwards", "tail", "letters_of", "nth_run", "outside", "parting", "fourth_run",
+    "first_unexplained", "first_clash", "kind_of",
 )
 MACHINES = (
     "machine_of", "runs_machine", "meet", "either", "without", "followed", "many", "reversed_machine", "behind",
-    "ahead", "all_beginnings",
+    "ahead", "all_beginnings", "close", "learn", "join", "local_close", "local_learn", "lump_machine", "barring_paper",
 )
-TUPLES = ("in_order", "beginnings", "short_runs", "three_runs", "shared_pairs", "fault", "never_paper")
-OR_NONE = ("state_behind", "nth_run", "outside", "parting", "fault", "least_closed", "never_paper")
+TUPLES = (
+    "in_order", "beginnings", "short_runs", "three_runs", "shared_pairs", "fault", "never_paper", "staircase", "leads",
+    "windows", "local_gap", "splice", "lot", "teach", "spare_runs", "lean_lot", "merge_log", "lumps", "derive",
+    "kind_paper", "fit_paper", "fits",
+)
+OR_NONE = (
+    "state_behind", "nth_run", "outside", "parting", "fault", "least_closed", "never_paper", "first_unexplained",
+    "least_local", "local_gap", "splice", "first_clash", "least_fit", "derive", "barring_paper", "fit_paper",
+)
+OF_RUNS = (
+    "in_order", "beginnings", "runs_machine", "learn", "staircase", "windows", "local_learn", "spare_runs", "lean_lot",
+    "merge_log",
+)
 
 RUNS = ("b", "aab", "", "ab", "aab")
+ALL = (((("a", 0), ("b", 0)),), (0,))
 WEB = (4, ((2, "b", 3), (0, "a", 1), (0, "a", 1), (1, "a", 2), (1, "b", 3), (3, "c", 0)), (1, 0, 0), (3, 3))
 
 
@@ -93,10 +156,15 @@ def calls():
         yield name, (corner,), {}
     for machine in some_machines():
         yield from calls_with(machine, corner)
+    for runs in ((), ("",), RUNS, list(RUNS), RUNS[::-1] * 2):
+        yield from calls_with_runs(runs)
+        for more in ((), ("bb", "aaab", ""), ["b", "aab"]):
+            yield from calls_with_two(runs, more)
     for first in some_machines():
         for second in some_machines()[:7]:
             for name in ("meet", "either", "without", "followed", "outside", "parting"):
                 yield name, (first, second), {}
+            yield "join", (first, second, 1), {}
 
 
 def calls_with(machine, corner):
@@ -118,16 +186,74 @@ def calls_with(machine, corner):
         yield "judge_never", (machine, paper), {}
 
 
+    for name in ("close", "leads", "local_close", "is_local", "local_gap", "lot", "teach"):
+        for k in (0, 2):
+            yield name, (machine, k), {}
+    yield "least_local", (machine,), {}
+    yield "judge_gap", (machine, 1, corner), {}
+    for runs in ((), RUNS, list(RUNS)):
+        yield "is_lot", (machine, 1, runs), {}
+        yield "least_fit", (machine, runs), {}
+        yield "judge_barring", (runs, 1, "bb", machine), {}
+        yield "judge_open", (runs, ("c",), 1, "bb", (machine, ALL)), {}
+
+
+def calls_with_runs(runs):
+    yield "staircase", (runs,), {}
+    for k in (0, 1, 20):
+        for name in ("learn", "windows", "local_learn", "spare_runs", "lean_lot", "merge_log"):
+            yield name, (runs, k), {}
+        for log in ((), function("merge_log")(runs, k), (("", "", "", "", ""),)):
+            yield "lumps", (runs, k, log), {}
+            yield "is_whole", (runs, k, log), {}
+        yield "lump_machine", (runs, k, function("merge_log")(runs, k)), {}
+        for run in ("", "ab", "aaaab", "ba"):
+            for name in ("fits_windows", "splice", "derive", "barring_paper"):
+                yield name, (runs, k, run), {}
+            for lines in ((), (("ab", ()), ("aab", ()), ("aaaab", (0, 1, 1, 1, 2)))):
+                yield "judge_derivation", (runs, k, lines, run), {}
+                yield "judge_sure", (runs, k, run, lines), {}
+                yield "judge_never_run", (runs, ("ab",), k, run, lines), {}
+            yield "judge_splices", (runs, k, (("ab", ()), (run, (0, 0, 1, 1))), run), {}
+
+
+def calls_with_two(runs, more):
+    for name in ("fits", "fit_paper"):
+        yield name, (runs, more), {}
+    yield "judge_fit", (runs, more, (1, ALL, (("ab", ()),))), {}
+    for k in (0, 1, 20):
+        for name in ("first_unexplained", "same_protocol", "first_clash"):
+            yield name, (runs, more, k), {}
+        for run in ("", "ab", "aaaab", "ba"):
+            for name in ("kind_of", "kind_paper"):
+                yield name, (runs, more, k, run), {}
+
+
 def told(name, arguments, keywords):
-    result = function(name)(*arguments, **keywords)
+    try:
+        result = function(name)(*arguments, **keywords)
+    except FromrunsError as error:
+        return Raised(type(error).__name__, vars(error))
     return list(result) if name == "each_run" else result
+
+
+class Raised(tuple):
+    """What a call raised, in the place of its result."""
+
+    def __new__(cls, *parts):
+        return super().__new__(cls, parts)
+
+
+RAISING = {"teach": "NotClosed", "kind_of": "Clash", "kind_paper": "Clash", "lumps": "BadMerge"}
 
 
 class Results(unittest.TestCase):
     def test_kinds(self):
         for name, arguments, keywords in calls():
             result = told(name, arguments, keywords)
-            if result is None:
+            if isinstance(result, Raised):
+                self.assertEqual(result[0], RAISING[name])
+            elif result is None:
                 self.assertIn(name, OR_NONE)
             elif name in TRUTHS:
                 self.assertIs(type(result), bool, name)
@@ -144,10 +270,10 @@ class Results(unittest.TestCase):
                 self.assertEqual(name, "each_run")
 
     def plain(self, value):
-        """Whether there is nothing but integers, strings and tuples of them."""
+        """Whether there is nothing but integers, strings, None and tuples of them."""
         if type(value) is tuple:
             return all(self.plain(part) for part in value)
-        return type(value) in (int, str)
+        return value is None or type(value) in (int, str)
 
     def test_all_functions_are_called_here(self):
         names = {name for names in INTERFACE.values() for name in names}
@@ -170,8 +296,10 @@ class Results(unittest.TestCase):
             self.assertEqual(told(*rows[at]), first[at])
 
     def test_lists_of_runs_mean_what_tuples_mean(self):
-        for name in ("in_order", "beginnings", "runs_machine"):
-            self.assertEqual(function(name)(list(RUNS)), function(name)(RUNS))
+        for name in OF_RUNS:
+            more = () if name in ("in_order", "beginnings", "runs_machine", "staircase") else (1,)
+            self.assertEqual(function(name)(list(RUNS), *more), function(name)(RUNS, *more))
+            self.assertEqual(function(name)(RUNS[::-1] + RUNS, *more), function(name)(RUNS, *more))
 
 
 class Interface(unittest.TestCase):
@@ -189,6 +317,15 @@ class Interface(unittest.TestCase):
     def test_the_examples_of_the_document(self):
         learned = (((("a", 0), ("b", 1)), ()), (1,))
         self.assertEqual(machine_of((2, ((0, "a", 0), (0, "b", 1)), (0,), (1,))), learned)
+        learn, takes = function("learn"), function("takes")
+        self.assertEqual(learn(("ab", "aab"), 0), learned)
+        self.assertTrue(takes(learn(("ab", "aab"), 1), "aaaab"))
+        self.assertFalse(takes(learn(("ab", "aab"), 2), "aaaab"))
+        self.assertEqual(function("least_fit")(runs_machine(("ab", "aab")), ("b", "aaab")), 2)
+        self.assertEqual(function("kind_of")(("ab", "aab"), ("b",), 1, "aaab"), "sure")
+        lines = (("ab", ()), ("aab", ()), ("aaab", (0, 1, 1, 1, 2)))
+        self.assertIs(function("judge_derivation")(("ab", "aab"), 1, lines, "aaab"), True)
+        self.assertIs(function("fits_windows")(("abc", "cab"), 1, "cabc"), True)
 
 
 if __name__ == "__main__":
