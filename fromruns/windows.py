@@ -102,7 +102,7 @@ def splice(runs, k, run):
     if not fits_windows(runs, k, run):
         return None
     ordered = in_order(runs)
-    start = [other for other in ordered if len(other) >= k and other.startswith(run[:k])][0]
+    start = [other for other in ordered if other.startswith(run[:k])][0]
     lines = [(start, ())]
     numbers = {start: 0}
     while lines[-1][0] != run:
@@ -135,7 +135,7 @@ def place_behind(runs, k, run, m):
     if m < len(run):
         other = [told for told in runs if run[m - k:m + 1] in told][0]
         return other, other.find(run[m - k:m + 1]) + k
-    other = [told for told in runs if len(told) >= k and told.endswith(last_letters(run, k))][0]
+    other = [told for told in runs if told.endswith(last_letters(run, k))][0]
     return other, len(other)
 
 

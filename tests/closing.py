@@ -4,6 +4,7 @@ Nothing here uses the package.
 """
 
 import random
+from functools import lru_cache
 
 from tests.reference import has, ordered
 
@@ -74,6 +75,7 @@ def slow_lumps(runs, k):
             return lump
 
 
+@lru_cache(maxsize=None)
 def slow_web(runs, k):
     """A web of the closure."""
     lump = slow_lumps(runs, k)
@@ -181,6 +183,7 @@ def splices(runs, k, lines, run):
     return lines != () and lines[-1][0] == run
 
 
+@lru_cache(maxsize=None)
 def is_closed_slowly(machine, k):
     """Point [16]: no bad pair shares k letters."""
     rows, ends = machine

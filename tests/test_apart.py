@@ -1,3 +1,4 @@
+import random
 import unittest
 
 from fromruns.apart import MOST_STATES, machine_apart
@@ -55,6 +56,18 @@ class Apart(unittest.TestCase):
                     with without_delay(self):
                         self.check(seen, barred, k)
         self.assertGreater(large, 15)
+
+    def test_it_is_right_where_no_small_one_is_found(self):
+        """Only for 20 do these not clash, and then nothing else can be put together."""
+        pick = random.Random(5)
+        for _ in range(3):
+            v = "".join(pick.choice("ab") for _ in range(19))
+            filling = tuple("".join(pick.choice("abcdef") for _ in range(20)) for _ in range(6))
+            seen, barred = ("a" + v, v, "a" + v + "c", *filling), (v + "c",)
+            with without_delay(self):
+                told = machine_apart(seen, barred, 20)
+            self.assertIsNone(complaint(told))
+            self.assertTrue(apart(told, 20, seen, barred))
 
 
 if __name__ == "__main__":

@@ -144,6 +144,19 @@ class Judge(unittest.TestCase):
             self.assertFalse(derives(SEEN, 1, lines, "aaab"))
             self.assertIs(judge_derivation(SEEN, 1, lines, "aaab"), False, reason)
 
+    def test_numbers_of_letters_that_there_are_not(self):
+        """What slices of strings would take for numbers of letters."""
+        for made, reason in (
+            ("aab", (0, 1, 0, 1, 2)), ("aab", (0, 1, 0, 2, 3)), ("aab", (0, 1, 0, -1, 2)), ("aab", (0, 1, 0, 1, -1)),
+            ("aab", (0, 1, 0, -1, -1)), ("aab", (0, 1, 0, 5, 3)), ("aab", (0, 1, 0, 2, 5)), ("aab", (0, 1, 0, 5, 5)),
+            ("ab", (1, 0, 1, -1, 1)), ("ab", (1, 0, 1, 3, 2)), ("ab", (1, 0, 1, 4, 2)), ("ab", (1, 0, 1, 3, 9)),
+            ("ab", (0, 0, 0, -1, -1)), ("ab", (0, 0, 0, 9, 9)), ("ab", (0, 0, 0, 2, 2)), ("ab", (0, 0, 0, -2, -2)),
+        ):
+            for k in (0, 1, 2):
+                lines = RIGHT[:2] + ((made, reason),)
+                self.assertIs(judge_derivation(SEEN, k, lines, made), derives(SEEN, k, lines, made), (k, reason))
+                self.assertFalse(min(reason) < 0 and derives(SEEN, k, lines, made))
+
     def test_wrong_runs(self):
         for made in ("", "a", "aab", "aaaab", "aaaB", "AAAB", "aaab ", "b" * 1000):
             lines = RIGHT[:2] + ((made, RIGHT[2][1]),)

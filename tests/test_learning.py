@@ -1,3 +1,4 @@
+import random
 import unittest
 
 from fromruns.combining import either, meet, outside, reversed_machine
@@ -204,6 +205,19 @@ class Close(unittest.TestCase):
             for k in (0, 1, 2, 20):
                 self.assertLessEqual(len(leads(machine, k)), 100)
                 self.assertEqual(close(machine, k), machine)
+        pick = random.Random(3)
+        for letters in ("ab", "abcdef"):
+            arrows = tuple((at, letter, pick.randrange(64)) for at in range(64) for letter in letters)
+            machine = machine_of((64, arrows, (0,), (3, 9)))
+            with without_delay(self):
+                told = close(machine, 0)
+            self.assertEqual(len(told[0]), 1)
+            self.assertIsNone(outside(machine, told))
+        arrows = tuple((at, letter, (at + step) % 64) for at in range(64) for step, letter in enumerate("abcdef"))
+        machine = machine_of((64, arrows, (0,), (3,)))
+        with without_delay(self):
+            self.assertEqual(close(machine, 0), machine)
+            self.assertEqual(len(close((machine[0], (3, 11)), 0)[0]), 8)
         with_end = (row_with_leads(50, "bc")[0], (0, 49))
         with without_delay(self):
             for k in (0, 1, 20):

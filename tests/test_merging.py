@@ -190,6 +190,26 @@ class Wrong(unittest.TestCase):
         self.assertFalse(self.check(RUNS, 3, (("ab", "aab", "ab", "aab", "ends"),)))
         self.assertTrue(self.check(RUNS, 3, (("aab", "aaab", "aab", "aaab", "ends"),)))
 
+    def test_the_last_letters_have_to_be_the_same(self):
+        ends = ("ab", "aa", "ab", "aa", "ends")
+        self.assertTrue(self.check(("ab", "aa"), 0, (ends,)))
+        self.assertFalse(self.check(("ab", "aa"), 1, (ends,)))
+        self.assertFalse(self.check(("ab", "aa"), 2, (ends,)))
+        both = ("abc", "aac", "abc", "aac", "ends")
+        meets = ("ab", "aa", "ab", "aa", "meets")
+        self.assertTrue(self.check(("abc", "aac"), 0, (both, meets)))
+        self.assertFalse(self.check(("abc", "aac"), 1, (both, meets)))
+        self.assertFalse(self.check(("abc", "aac"), 2, (both,)))
+
+    def test_the_reason_has_to_be_one_of_three(self):
+        ends = ("ab", "aab", "ab", "aab", "ends")
+        meets = ("a", "aa", "a", "aa", "meets")
+        step = ("aa", "aaa", "a", "aa", "step")
+        self.assertTrue(self.check(RUNS, 1, (ends, meets, step)))
+        for told, before in ((ends, ()), (meets, (ends,)), (step, (ends, meets))):
+            for reason in ("step", "ends", "meets", "", "meet", "Meets", "x"):
+                self.assertEqual(self.check(RUNS, 1, (*before, told[:4] + (reason,))), reason == told[4], (told, reason))
+
     def test_tuples_of_another_length(self):
         good = ("ab", "aab", "ab", "aab", "ends")
         for merge in ((), ("ends",), good[:4], good + ("ends",), good[1:]):

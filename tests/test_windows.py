@@ -380,6 +380,12 @@ class Splicing(unittest.TestCase):
         self.assertIs(judge_splices(runs, 1, (("ab", ()),), "ab"), False)
         self.assertIs(judge_splices(runs, 1, (good,) + right, "abc"), False)
         self.assertIs(judge_splices(runs, 0, (("a", (0, 0, 0, 0)),), "a"), False)
+        # the last letters in front of what is put together have to be the same
+        pair = (("ab", ()), ("cd", ()))
+        self.assertIs(judge_splices(("ab", "cd"), 0, pair + (("ad", (0, 1, 1, 1)),), "ad"), True)
+        self.assertIs(judge_splices(("ab", "cd"), 1, pair + (("ad", (0, 1, 1, 1)),), "ad"), False)
+        self.assertIs(judge_splices(("abx", "cby"), 1, (("abx", ()), ("cby", ()), ("aby", (0, 1, 2, 2))), "aby"), True)
+        self.assertIs(judge_splices(("abx", "cby"), 2, (("abx", ()), ("cby", ()), ("aby", (0, 1, 2, 2))), "aby"), False)
         # fewer than k letters do not do, whatever they are
         self.assertIs(judge_splices(runs, 2, right + (("cbc", (0, 1, 1, 1)),), "cbc"), False)
         self.assertIs(judge_splices(runs, 0, right + (("cbc", (0, 1, 1, 1)),), "cbc"), True)
