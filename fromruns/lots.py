@@ -5,7 +5,7 @@ from fromruns.errors import NotClosed
 from fromruns.learning import close, lead_steps, leads, learn
 from fromruns.lumping import lumps_of_runs
 from fromruns.machines import tail, takes
-from fromruns.words import in_order
+from fromruns.words import in_order, without_run
 
 
 def lot(machine, k):
@@ -51,7 +51,7 @@ def spare_runs(runs, k):
 
 def is_spare(runs, k, run):
     """Tell whether the run is in the closure of the other runs."""
-    return lumps_of_runs([other for other in runs if other != run], k).has(run)
+    return lumps_of_runs(without_run(runs, run), k).has(run)
 
 
 def lean_lot(runs, k):

@@ -66,15 +66,17 @@ def tree_of(runs):
 
 def state_behind(machine, run):
     """Return the state that the run leads to from state 0, or None."""
-    rows, _ = machine
-    if not rows:
-        return None
-    state = 0
+    return state_from(machine, 0, run) if machine[0] else None
+
+
+def state_from(machine, state, run):
+    """Return the state that the run leads to from the state, or None."""
+    place = state
     for letter in run:
-        state = state_along(rows[state], letter)
-        if state is None:
+        place = state_along(machine[0][place], letter)
+        if place is None:
             return None
-    return state
+    return place
 
 
 def state_along(row, letter):

@@ -19,3 +19,8 @@ def last_letters(run, k):
 def backwards(run):
     """Return the run read from the last letter to the first one."""
     return run[::-1]
+
+
+def without_run(runs, run):
+    """Return the tuple of the runs but this one."""
+    return tuple([told for told in runs if told != run])

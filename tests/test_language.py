@@ -120,6 +120,56 @@ class Rules(unittest.TestCase):
         for place, node in self.each(ast.ClassDef):
             self.assertEqual(node.decorator_list, [], place)
 
+    def test_stars_among_parameters(self):
+        for place, node in self.each(ast.ClassDef):
+            for part in [inner for inner in node.body if isinstance(inner, ast.FunctionDef)]:
+                static = [ast.unparse(decorator) for decorator in part.decorator_list] == ["staticmethod"]
+                self.assertTrue(static or part.args.args, place)
+                if part.name.startswith("__") and part.name != "__init__":
+                    self.assertFalse(part.args.vararg or part.args.kwarg or part.args.kwonlyargs, place)
+                if part.args.kwonlyargs:
+                    self.assertNotIn(part.name, METHODS, place)
+
+    def test_double_underscore_methods(self):
+        for place, node in self.each(ast.FunctionDef):
+            if not node.name.startswith("__"):
+                continue
+            self.assertIn(node.name, ("__init__", "__contains__", "__bool__", "__call__", "__iter__"), place)
+            self.assertEqual(node.decorator_list, [], place)
+            rows = [row for row in node.body if not isinstance(row, ast.Expr) or isinstance(row.value, ast.Call)]
+            if node.name == "__init__":
+                self.assertFalse([part for part in ast.walk(node) if isinstance(part, ast.Return)], place)
+                continue
+            # Each is a single return, which changes nothing.
+            self.assertEqual([type(row) for row in rows], [ast.Return], place)
+            if node.name == "__iter__":
+                self.assertRegex(ast.unparse(rows[0]), r"^return iter\(self\.[a-z_]+\)$")
+
+    def test_properties_only_measure(self):
+        for place, node in self.each(ast.FunctionDef):
+            if "property" in [ast.unparse(decorator) for decorator in node.decorator_list]:
+                self.assertRegex(ast.unparse(node.body[-1]), r"^return len\(self\.[a-z_]+(\[0\])?\)$", place)
+                self.assertEqual([type(row) for row in node.body], [ast.Expr, ast.Return], place)
+
+    def test_no_name_is_an_attribute_and_a_method(self):
+        stored = {
+            node.attr for _, node in self.each(ast.Attribute) if isinstance(node.ctx, ast.Store)
+        }
+        self.assertEqual(stored & own_methods(), set())
+
+    def test_what_is_imported_is_only_called(self):
+        for path, tree in TREES.items():
+            parents = parents_of(tree)
+            names = {
+                alias.name
+                for node in tree.body
+                if isinstance(node, ast.ImportFrom) and node.module in LIBRARY
+                for alias in node.names
+            }
+            for node in ast.walk(tree):
+                if isinstance(node, ast.Name) and node.id in names:
+                    self.assertTrue(isinstance(parents[node], ast.Call) and parents[node].func is node, path.name)
+
     def test_statements(self):
         for place, node in self.each(ast.stmt):
             self.assertIsInstance(node, STATEMENTS, place)

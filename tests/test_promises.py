@@ -94,37 +94,69 @@ INTERFACE = {
         "judge_open": "seen, barred, k, run, paper",
     },
     "fitting": {"fit_paper": "seen, barred", "judge_fit": "seen, barred, paper", "fits": "seen, barred"},
+    "supports": {"support": "runs, k, run", "judge_support": "runs, k, run, paper", "blame": "seen, barred, k"},
+    "coding": {
+        "coded_run": "code, run",
+        "decoded_run": "code, run",
+        "decoded": "machine, code",
+        "coded": "machine, code",
+        "twice": "code",
+    },
+    "patterns": {"read_pattern": "text", "write_pattern": "machine"},
+    "writing": {"write_runs": "runs", "write_machine": "machine"},
+    "reading": {"read_runs": "text", "read_machine": "text"},
 }
+CLASSES = {
+    "notebook": ("Notebook", "k", {
+        "see": "run", "bar": "run", "forget": "run", "undo": "", "seen": "", "barred": "", "machine": "", "kind": "run",
+    }),
+    "watch": ("Watch", "machine", {"letter": "letter", "back": "", "left": "", "may_end": "", "may_follow": ""}),
+    "journal": ("Journal", "k", {
+        "begin": "case", "step": "case, letter", "undo": "", "finish": "case", "machine": "", "open_cases": "",
+        "finished_runs": "", "strange_cases": "", "news": "machine",
+    }),
+    "bundles": ("Bundle", "machine", {
+        "of_runs": "*runs", "learned": "runs, *, k=0", "closed": "*, k=0", "both": "other", "more": "other",
+        "less": "other", "then": "other", "within": "other",
+    }),
+}
+PROPERTIES = {"notebook": ("deeds",), "bundles": ("size",)}
 
 TRUTHS = (
     "takes", "is_finite", "judge_fault", "is_bad", "is_closed", "judge_never", "same_protocol", "fits_windows",
     "is_local", "judge_gap", "judge_splices", "is_lot", "is_whole", "judge_derivation", "judge_barring", "judge_sure",
-    "judge_never_run", "judge_open", "judge_fit",
+    "judge_never_run", "judge_open", "judge_fit", "judge_support",
 )
 NUMBERS = ("count_runs", "number_of", "state_behind", "least_closed", "least_local", "least_fit")
 STRINGS = (
     "last_letters", "backwards", "tail", "letters_of", "nth_run", "outside", "parting", "fourth_run",
-    "first_unexplained", "first_clash", "kind_of",
+    "first_unexplained", "first_clash", "kind_of", "coded_run", "decoded_run", "twice", "write_pattern", "write_runs",
+    "write_machine",
 )
 MACHINES = (
     "machine_of", "runs_machine", "meet", "either", "without", "followed", "many", "reversed_machine", "behind",
     "ahead", "all_beginnings", "close", "learn", "join", "local_close", "local_learn", "lump_machine", "barring_paper",
+    "decoded", "coded", "read_pattern", "read_machine",
 )
 TUPLES = (
     "in_order", "beginnings", "short_runs", "three_runs", "shared_pairs", "fault", "never_paper", "staircase", "leads",
     "windows", "local_gap", "splice", "lot", "teach", "spare_runs", "lean_lot", "merge_log", "lumps", "derive",
-    "kind_paper", "fit_paper", "fits",
+    "kind_paper", "fit_paper", "fits", "support", "blame", "read_runs",
 )
 OR_NONE = (
     "state_behind", "nth_run", "outside", "parting", "fault", "least_closed", "never_paper", "first_unexplained",
     "least_local", "local_gap", "splice", "first_clash", "least_fit", "derive", "barring_paper", "fit_paper",
+    "support", "blame", "coded_run", "decoded_run", "twice",
 )
 OF_RUNS = (
     "in_order", "beginnings", "runs_machine", "learn", "staircase", "windows", "local_learn", "spare_runs", "lean_lot",
-    "merge_log",
+    "merge_log", "write_runs",
 )
+NOT_SETS = ("write_runs",)
+WITHOUT_K = ("in_order", "beginnings", "runs_machine", "staircase")
 
 RUNS = ("b", "aab", "", "ab", "aab")
+CODES = ((), (("a", "b"),), (("a", "x"), ("b", "xy"), ("c", "yx")), (("a", "a"), ("b", "a")), (("a", "bb"), ("b", "a")))
 ALL = (((("a", 0), ("b", 0)),), (0,))
 WEB = (4, ((2, "b", 3), (0, "a", 1), (0, "a", 1), (1, "a", 2), (1, "b", 3), (3, "c", 0)), (1, 0, 0), (3, 3))
 
@@ -144,7 +176,7 @@ def some_machines():
 def calls():
     """Names, arguments and keyword arguments of some calls of each function."""
     for runs in ((), RUNS, list(RUNS)):
-        for name in ("in_order", "beginnings", "runs_machine"):
+        for name in ("in_order", "beginnings", "runs_machine", "write_runs"):
             yield name, (runs,), {}
     for run in ("", "ab", "abcabc"):
         yield "backwards", (run,), {}
@@ -165,6 +197,29 @@ def calls():
             for name in ("meet", "either", "without", "followed", "outside", "parting"):
                 yield name, (first, second), {}
             yield "join", (first, second, 1), {}
+    yield from calls_with_texts()
+    for code in CODES:
+        yield "twice", (code,), {}
+        for run in ("", "ab", "xyx", "xxxx", "c"):
+            yield "coded_run", (code, run), {}
+            yield "decoded_run", (code, run), {}
+        for machine in some_machines():
+            yield "coded", (machine, code), {}
+            yield "decoded", (machine, code), {}
+
+
+def calls_with_texts():
+    for text in ("", "a", "(a|b)*", "a*", "!", ".", "a|", "(", "A", "(a))"):
+        yield "read_pattern", (text,), {}
+    for text in ("", ".\n", "b\n.\nb\n", "b", "\n", "a\n1\n"):
+        yield "read_runs", (text,), {}
+        yield "read_machine", (text,), {}
+    for text in ("states 0\n", "states 1\nend\na 0\n", "states 1\nend\na 1\n", "states 1\nend", "end\nx\n"):
+        yield "read_machine", (text,), {}
+    for machine in some_machines():
+        yield "write_machine", (machine,), {}
+        if len(machine[0]) <= 4:
+            yield "write_pattern", (machine,), {}
 
 
 def calls_with(machine, corner):
@@ -208,8 +263,10 @@ def calls_with_runs(runs):
             yield "is_whole", (runs, k, log), {}
         yield "lump_machine", (runs, k, function("merge_log")(runs, k)), {}
         for run in ("", "ab", "aaaab", "ba"):
-            for name in ("fits_windows", "splice", "derive", "barring_paper"):
+            for name in ("fits_windows", "splice", "derive", "barring_paper", "support"):
                 yield name, (runs, k, run), {}
+            for paper in ((), ("ab", "aab"), ("aab", "ab"), ("",)):
+                yield "judge_support", (runs, k, run, paper), {}
             for lines in ((), (("ab", ()), ("aab", ()), ("aaaab", (0, 1, 1, 1, 2)))):
                 yield "judge_derivation", (runs, k, lines, run), {}
                 yield "judge_sure", (runs, k, run, lines), {}
@@ -222,7 +279,7 @@ def calls_with_two(runs, more):
         yield name, (runs, more), {}
     yield "judge_fit", (runs, more, (1, ALL, (("ab", ()),))), {}
     for k in (0, 1, 20):
-        for name in ("first_unexplained", "same_protocol", "first_clash"):
+        for name in ("first_unexplained", "same_protocol", "first_clash", "blame"):
             yield name, (runs, more, k), {}
         for run in ("", "ab", "aaaab", "ba"):
             for name in ("kind_of", "kind_paper"):
@@ -244,7 +301,10 @@ class Raised(tuple):
         return super().__new__(cls, parts)
 
 
-RAISING = {"teach": "NotClosed", "kind_of": "Clash", "kind_paper": "Clash", "lumps": "BadMerge"}
+RAISING = {
+    "teach": ("NotClosed",), "kind_of": ("Clash",), "kind_paper": ("Clash",), "lumps": ("BadMerge",),
+    "read_pattern": ("BadPattern",), "read_runs": ("BadLine",), "read_machine": ("BadLine", "BadText"),
+}
 
 
 class Results(unittest.TestCase):
@@ -252,7 +312,7 @@ class Results(unittest.TestCase):
         for name, arguments, keywords in calls():
             result = told(name, arguments, keywords)
             if isinstance(result, Raised):
-                self.assertEqual(result[0], RAISING[name])
+                self.assertIn(result[0], RAISING[name])
             elif result is None:
                 self.assertIn(name, OR_NONE)
             elif name in TRUTHS:
@@ -297,12 +357,117 @@ class Results(unittest.TestCase):
 
     def test_lists_of_runs_mean_what_tuples_mean(self):
         for name in OF_RUNS:
-            more = () if name in ("in_order", "beginnings", "runs_machine", "staircase") else (1,)
+            more = () if name in WITHOUT_K + NOT_SETS else (1,)
             self.assertEqual(function(name)(list(RUNS), *more), function(name)(RUNS, *more))
-            self.assertEqual(function(name)(RUNS[::-1] + RUNS, *more), function(name)(RUNS, *more))
+            if name not in NOT_SETS:
+                self.assertEqual(function(name)(RUNS[::-1] + RUNS, *more), function(name)(RUNS, *more))
+
+
+def objects():
+    """Objects of each class, two of each, and the names and arguments of some calls of their methods."""
+    deeds = [("see", "ab"), ("bar", "b"), ("see", "aab"), ("see", "b"), ("bar", "aaab"), ("forget", "b"), ("undo",)]
+    asked = [("seen",), ("barred",), ("machine",), ("kind", "aaab"), ("kind", ""), ("forget", "c"), ("undo",), ("undo",)]
+    for k in (0, 1):
+        yield class_of("notebook")(k), deeds + asked + deeds + [("undo",)] * 12 + asked
+    letters = [("letter", "a"), ("letter", "b"), ("back",), ("letter", "c"), ("letter", "a")]
+    asked = [("left",), ("may_end",), ("may_follow",)]
+    for machine in some_machines():
+        steps = [step for letter in letters for step in [letter] + asked]
+        yield class_of("watch")(machine), asked + steps + [("back",)] * 5
+    deeds = [("begin", 3), ("step", 3, "a"), ("begin", 3), ("step", 4, "a"), ("finish", 3), ("begin", -3), ("finish", 9)]
+    asked = [("machine",), ("open_cases",), ("finished_runs",), ("strange_cases",), ("news", ALL), ("news", ((), ()))]
+    for k in (0, 1):
+        yield class_of("journal")(k), asked + deeds + asked + [("undo",)] * 6 + asked
+    for machine in some_machines():
+        told = [("of_runs", "ab", "b"), ("of_runs",), ("learned", RUNS), ("learned", list(RUNS)), ("closed",)]
+        other = class_of("bundles")(ALL)
+        names = ("both", "more", "less", "then", "within")
+        yield class_of("bundles")(machine), told + [(name, other) for name in names]
+
+
+def class_of(module):
+    return getattr(importlib.import_module("fromruns." + module), CLASSES[module][0])
+
+
+def answers(made, steps):
+    """What the calls return or raise."""
+    found = []
+    for name, *arguments in steps:
+        try:
+            result = getattr(made, name)(*arguments)
+        except FromrunsError as error:
+            result = Raised(type(error).__name__, vars(error))
+        found.append(result.held if hasattr(result, "held") else result)
+    return found
+
+
+RAISED_BY = {
+    "see": ("KnownRun", "Clash"), "bar": ("KnownRun", "Clash"), "forget": ("UnknownRun",), "undo": ("NothingToUndo",),
+    "back": ("NothingToUndo",), "begin": ("OpenCase",), "step": ("UnknownCase",), "finish": ("UnknownCase",),
+}
+RETURNING = {
+    str: ("kind", "may_follow", "news"),
+    bool: ("letter", "may_end", "finish", "within"),
+    int: ("left",),
+    tuple: ("seen", "barred", "machine", "open_cases", "finished_runs", "strange_cases", "of_runs", "learned", "closed",
+            "both", "more", "less", "then"),
+}
+SILENT = ("see", "bar", "forget", "undo", "back", "begin", "step", "left", "news")
+
+
+class Objects(unittest.TestCase):
+    def test_the_same_calls_give_the_same_results_again(self):
+        first = [answers(made, steps) for made, steps in objects()]
+        self.assertEqual([answers(made, steps) for made, steps in objects()], first)
+
+    def test_objects_side_by_side(self):
+        wanted = [answers(made, steps) for made, steps in objects()]
+        rows = [(made, steps, []) for made, steps in objects()]
+        for at in range(max(len(steps) for _, steps, _ in rows)):
+            for made, steps, found in rows:
+                found.extend(answers(made, steps[at:at + 1]))
+        self.assertEqual([found for _, _, found in rows], wanted)
+
+    def test_kinds(self):
+        called = set()
+        for made, steps in objects():
+            for (name, *_), result in zip(steps, answers(made, steps)):
+                called.add((type(made).__name__, name))
+                if isinstance(result, Raised):
+                    self.assertIn(result[0], RAISED_BY[name])
+                elif result is None:
+                    self.assertIn(name, SILENT)
+                else:
+                    self.assertIn(name, RETURNING[type(result)])
+        self.assertEqual(called, {(told, name) for told, _, methods in CLASSES.values() for name in methods})
+
+    def test_what_is_passed_is_unchanged(self):
+        for made, steps in objects():
+            for name, *arguments in steps:
+                before = [list(told) if type(told) is list else told for told in arguments]
+                answers(made, [(name, *arguments)])
+                self.assertEqual(arguments, before)
+
+
+def parameters_of(made, method):
+    """The parameters of the method, which stands in the class itself, without the object or the class."""
+    told = vars(made)[method]
+    signature = inspect.signature(getattr(told, "__func__", told))
+    names = list(signature.parameters.values())
+    return str(inspect.Signature(names if isinstance(told, staticmethod) else names[1:]))
 
 
 class Interface(unittest.TestCase):
+    def test_classes_and_their_methods(self):
+        for module, (name, parameters, methods) in CLASSES.items():
+            made = class_of(module)
+            self.assertEqual((made.__module__, made.__name__), ("fromruns." + module, name))
+            self.assertEqual(str(inspect.signature(made)), f"({parameters})")
+            for method, told in methods.items():
+                self.assertEqual(parameters_of(made, method), f"({told})", method)
+            for told in PROPERTIES.get(module, ()):
+                self.assertIsInstance(vars(made)[told], property)
+
     def test_names_arguments_and_files(self):
         for module, names in INTERFACE.items():
             for name, parameters in names.items():
@@ -326,6 +491,7 @@ class Interface(unittest.TestCase):
         lines = (("ab", ()), ("aab", ()), ("aaab", (0, 1, 1, 1, 2)))
         self.assertIs(function("judge_derivation")(("ab", "aab"), 1, lines, "aaab"), True)
         self.assertIs(function("fits_windows")(("abc", "cab"), 1, "cabc"), True)
+        self.assertEqual(function("twice")((("a", "x"), ("b", "xy"), ("c", "yx"))), "xyx")
 
 
 if __name__ == "__main__":
