@@ -57,17 +57,30 @@ class Apart(unittest.TestCase):
                         self.check(seen, barred, k)
         self.assertGreater(large, 15)
 
-    def test_it_is_right_where_no_small_one_is_found(self):
-        """Only for 20 do these not clash, and then nothing else can be put together."""
-        pick = random.Random(5)
-        for _ in range(3):
-            v = "".join(pick.choice("ab") for _ in range(19))
-            filling = tuple("".join(pick.choice("abcdef") for _ in range(20)) for _ in range(6))
-            seen, barred = ("a" + v, v, "a" + v + "c", *filling), (v + "c",)
+    def test_what_only_the_last_k_letters_tell_apart(self):
+        """The seen runs and the barred one clash for each smaller number, so little else can be put together."""
+        large = 0
+        for seed in range(40):
+            pick = random.Random(seed)
+            k = pick.choice((15, 19, 20))
+            v = "".join(pick.choice("ab" if seed % 2 else "abcdef") for _ in range(k - 1))
+            seen, barred = pick.choice((
+                (("a" + v, v, "a" + v + "c"), (v + "c",)),
+                (("a" + v, "b" + v, "a" + v + "c"), ("b" + v + "c",)),
+                (("a" + v + "a", v + "a", "a" + v + "b"), (v + "b",)),
+                (("a" + v, v, "a" + v + "c"), (v + "c", *[v[:at] + "d" for at in range(0, 15, 3)])),
+            ))
+            many = pick.choice((6, 12, 20, 40))
+            filling = ["".join(pick.choice("abcdef"[:2 + seed % 5]) for _ in range(many)) for _ in range(130 // many)]
+            seen = fitting((*filling, *seen))
+            if has(learn(seen, k), barred[0]):
+                continue
+            for fewer in range(k - 1):
+                self.assertTrue(has(learn(seen, fewer), barred[0]))
+            large += len(learn(seen, k)[0]) > 64
             with without_delay(self):
-                told = machine_apart(seen, barred, 20)
-            self.assertIsNone(complaint(told))
-            self.assertTrue(apart(told, 20, seen, barred))
+                self.check(seen, barred, k)
+        self.assertGreater(large, 25)
 
 
 if __name__ == "__main__":
